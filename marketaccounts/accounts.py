@@ -22,6 +22,12 @@ def need_of_member(house, number):
     return max(0, member.unbilled + UNITS_OF_A_CENT * (rests_of_member(house, number) - member.pool))
 
 
+def lack_of_member(house, number):
+    # Rounded up: a part of a cent that's needed takes a whole one.
+    needed_cents = -(-need_of_member(house, number) // UNITS_OF_A_CENT)
+    return max(0, needed_cents - house.members[number - 1].collateral)
+
+
 def signed_accounts(house):
     in_cents = [house.taxes, house.cash, -house.house_part, house.loss]
     in_units = [house.market, house.rounding]

@@ -1,11 +1,12 @@
-"""The calls bill and billAll, and how money is put on a member's invoices."""
+"""The calls bill, billAll and close, and how money is put on a member's invoices."""
 
 from marketaccounts.accounts import unless_beyond_limit
 from marketaccounts.house import Invoice
 from marketaccounts.reckoning import UNITS_OF_A_CENT, cents_of_total, tax_on_cents
-from marketaccounts.refusals import ACCEPTED, NO_ROOM, refusal_of_pair, refusal_of_period
+from marketaccounts.refusals import ACCEPTED, NO_ROOM, NOT_RIPE, refusal_of_pair, refusal_of_period
 
 MOST_INVOICES = 256
+MOST_CLOSED_PERIODS = 256
 
 
 def put_on_invoices(house, number, money):
@@ -75,8 +76,11 @@ def bill(house, number, period):
 
 
 def is_to_be_billed(house, number, period):
-    pair = house.pairs.get((number, period))
-    return pair is not None and not house.members[number - 1].failed and not pair.is_all_seen()
+    return not house.members[number - 1].failed and not house.pair_of(number, period).is_all_seen()
+
+
+def numbers_to_bill(house, period):
+    return [number for number in range(1, len(house.members) + 1) if is_to_be_billed(house, number, period)]
 
 
 def bill_all(house, period):
@@ -84,7 +88,18 @@ def bill_all(house, period):
     if refusal != ACCEPTED:
         return [refusal]
     invoices_before = len(house.invoices)
-    for number in range(1, len(house.members) + 1):
-        if is_to_be_billed(house, number, period):
-            bill_pair(house, number, period)
+    for number in numbers_to_bill(house, period):
+        bill_pair(house, number, period)
     return answer_of_bills(house, invoices_before)
+
+
+def close_period(house, period):
+    refusal = refusal_of_period(house, period)
+    if refusal != ACCEPTED:
+        return [refusal]
+    if len(numbers_to_bill(house, period)) > 0:
+        return [NOT_RIPE]
+    if len(house.closed) == MOST_CLOSED_PERIODS:
+        return [NO_ROOM]
+    house.closed[period] = True
+    return [ACCEPTED]

@@ -1,6 +1,8 @@
 """The desk: reads the calls out of one list, has them done one by one, and tells the answers."""
 
-from marketaccounts.billing import bill, bill_all
+from marketaccounts.asking import ask_balance, ask_failure, ask_invoice, ask_invoices, ask_ledger, ask_loss
+from marketaccounts.asking import ask_overdue, ask_preview, ask_reckon, ask_short, ask_taxes, ask_total
+from marketaccounts.billing import bill, bill_all, close_period
 from marketaccounts.entries import add_member, begin_day, open_house, tell_item
 from marketaccounts.failing import fail, recover
 from marketaccounts.house import House
@@ -8,7 +10,8 @@ from marketaccounts.payments import deposit, fund, pay, refund, release
 from marketaccounts.refusals import ACCEPTED, HOUSE_NOT_OPEN, OUT_OF_RANGE
 
 OPEN_PLACE = 0
-LAST_PLACE = 12
+LOSS_PLACE = 25
+LAST_PLACE = 25
 
 # The least and the greatest of each argument.
 TERMS = (0, 1000)
@@ -19,6 +22,10 @@ MEMBER = (1, 16)
 PERIOD = (0, 9999)
 AMOUNT = (-1000000000000000, 1000000000000000)
 CENTS = (1, 1000000000000000)
+INVOICE = (1, 256)
+TOTAL = (-1000000000000000000, 1000000000000000000)
+PART = (0, 1000000000000000)
+COUNT_OF_OTHERS = (0, 16)
 
 
 class UnknownCall(ValueError):
@@ -42,15 +49,32 @@ def call_at(place):
         (fund, (MEMBER, CENTS)),
         (fail, (MEMBER,)),
         (recover, (MEMBER, CENTS)),
+        (close_period, (PERIOD,)),
+        (ask_total, (MEMBER, PERIOD)),
+        (ask_invoice, (INVOICE,)),
+        (ask_invoices, (MEMBER,)),
+        (ask_balance, (MEMBER,)),
+        (ask_short, ()),
+        (ask_overdue, ()),
+        (ask_ledger, ()),
+        (ask_taxes, (PERIOD,)),
+        (ask_failure, (MEMBER,)),
+        (ask_preview, (MEMBER, PERIOD)),
+        (ask_reckon, (TOTAL,)),
+        (ask_loss, (PART, PART, PART, PART, COUNT_OF_OTHERS)),
     )
     return calls[place]
 
 
-def count_of_arguments(place):
-    return len(call_at(place)[1])
+def end_of_call(calls, at):
+    behind = at + 1 + len(call_at(calls[at])[1])
+    # The last told number of loss is how many more its second row has.
+    return behind + calls[behind - 1] if calls[at] == LOSS_PLACE else behind
 
 
-def are_in_range(arguments, ranges):
+def are_in_range(arguments, told_ranges):
+    # Only the second row of loss stands behind the arguments whose ranges are told one by one.
+    ranges = told_ranges + (PART,) * (len(arguments) - len(told_ranges))
     return all([ends[0] <= argument <= ends[1] for argument, ends in zip(arguments, ranges)])
 
 
@@ -61,7 +85,9 @@ def done_with(deed, house, arguments):
         return deed(house, arguments[0])
     if len(arguments) == 2:
         return deed(house, arguments[0], arguments[1])
-    return deed(house, arguments[0], arguments[1], arguments[2])
+    if len(arguments) == 3:
+        return deed(house, arguments[0], arguments[1], arguments[2])
+    return deed(house, arguments[0], arguments[1], arguments[2], arguments[3], arguments[5:])
 
 
 def answer_to_call(house, place, arguments):
@@ -86,7 +112,7 @@ def answers(calls):
     at = 0
     while at < len(calls):
         place = calls[at]
-        behind = at + 1 + count_of_arguments(place)
+        behind = end_of_call(calls, at)
         outcome = house_and_answer(house, place, calls[at + 1:behind])
         house = outcome[0]
         told.append(len(outcome[1]))

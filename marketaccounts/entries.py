@@ -1,7 +1,7 @@
 """The calls open, member, day and item: what the house needs before there is a bill."""
 
 from marketaccounts.accounts import is_beyond_limit, unless_beyond_limit
-from marketaccounts.house import Member, Pair
+from marketaccounts.house import Member
 from marketaccounts.refusals import ACCEPTED, BEYOND_LIMIT, HOUSE_OPEN_ALREADY, NO_ROOM, NOT_AFTER_TODAY
 from marketaccounts.refusals import refusal_of_pair
 
@@ -41,7 +41,7 @@ def tell_item(house, number, period, amount):
     key = (number, period)
     if key not in house.pairs and len(house.pairs) == MOST_PAIRS:
         return [NO_ROOM]
-    pair = house.pairs.get(key, Pair(0, 0, 0, 0)).with_item(amount)
+    pair = house.pair_of(number, period).with_item(amount)
     if is_beyond_limit(pair.total):
         return [BEYOND_LIMIT]
     house.pairs[key] = pair

@@ -3,7 +3,7 @@
 from marketaccounts.accounts import rests_of_member, unless_beyond_limit
 from marketaccounts.house import Failure
 from marketaccounts.reckoning import loss_borne, split_by_weights
-from marketaccounts.refusals import ACCEPTED, NOT_RIPE, NOTHING_TO_RECOVER
+from marketaccounts.refusals import ACCEPTED, NO_SUCH_FAILURE, NOT_RIPE
 from marketaccounts.refusals import refusal_of_member, refusal_of_number
 
 
@@ -55,7 +55,7 @@ def recover(house, number, cents):
         return [refusal]
     failure = house.failures.get(number)
     if failure is None or failure.not_back_in_all() < cents:
-        return [NOTHING_TO_RECOVER]
+        return [NO_SUCH_FAILURE]
     to_nobody = min(cents, failure.nobody_not_back)
     to_others = min(cents - to_nobody, sum(failure.others_not_back))
     to_house = cents - to_nobody - to_others

@@ -90,6 +90,9 @@ class House:
         self.failures = {}
         self.closed = {}
 
+    def pair_of(self, number, period):
+        return self.pairs.get((number, period), Pair(0, 0, 0, 0))
+
     def twin(self):
         other = House()
         other.is_open = self.is_open

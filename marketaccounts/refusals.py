@@ -12,7 +12,8 @@ BEYOND_LIMIT = -8
 NOT_ENOUGH = -9
 NOT_AFTER_TODAY = -10
 NOT_RIPE = -11
-NOTHING_TO_RECOVER = -12
+NO_SUCH_FAILURE = -12
+INVOICE_NOT_MADE = -13
 
 
 def refusal_of_number(house, number):

@@ -3,7 +3,8 @@
 from marketaccounts.desk import answers, house_and_answer
 from marketaccounts.house import House
 
-OPEN, MEMBER, DAY, ITEM, BILL, BILL_ALL, PAY, REFUND, DEPOSIT, RELEASE, FUND, FAIL, RECOVER = range(13)
+(OPEN, MEMBER, DAY, ITEM, BILL, BILL_ALL, PAY, REFUND, DEPOSIT, RELEASE, FUND, FAIL, RECOVER, CLOSE, TOTAL, INVOICE,
+ INVOICES, BALANCE, SHORT, OVERDUE, LEDGER, TAXES, FAILURE, PREVIEW, RECKON, LOSS) = range(26)
 
 E15 = 10 ** 15
 E18 = 10 ** 18
